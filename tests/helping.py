@@ -3,6 +3,9 @@
 import copy
 import inspect
 
+GREAT = 123456789012345678901234567890
+NO_PRIMES = (-7, 0, 1, 2, 4, 9, 63, 67, GREAT)
+
 
 def signature(function):
     """The parameters as (name, "place" or "name", default or None)."""
@@ -26,6 +29,16 @@ def same_kinds(one, other):
     if isinstance(one, (list, tuple)):
         return len(one) == len(other) and all(map(same_kinds, one, other))
     return one == other
+
+
+def spoil(thing):
+    """Change every list in it, at every depth."""
+    if isinstance(thing, (list, tuple)):
+        for inner in thing:
+            spoil(inner)
+    if isinstance(thing, list):
+        thing.reverse()
+        thing.append(97)
 
 
 class Checks:
@@ -63,3 +76,15 @@ class Checks:
             if isinstance(thing, list) and thing:
                 thing[0] = (thing[0] + 1) % 3
         self.assertEqual(second, kept)
+
+    def keeps_within(self, function, *things, **named):
+        """As keeps, of lists within lists and tuples too, whatever is told."""
+        before = copy.deepcopy(things)
+        first = function(*things, **named)
+        kept = copy.deepcopy(first)
+        spoil(first)
+        self.assertTrue(same_kinds(before, things))
+        self.tells(kept, function, *things, **named)
+        second = function(*things, **named)
+        spoil(things)
+        self.assertTrue(same_kinds(kept, second))

@@ -4,10 +4,7 @@ import unittest
 from weaklook.errors import BadLine, BadPrime, BadRest
 from weaklook.lines import added, roots, through, timed, worth
 from weaklook.rests import PRIMES
-from tests.helping import Checks, places, signature
-
-GREAT = 123456789012345678901234567890
-NO_PRIMES = (-7, 0, 1, 2, 4, 9, 63, 67, GREAT)
+from tests.helping import GREAT, NO_PRIMES, Checks, places, signature
 
 
 def some_line(many, seed, prime):

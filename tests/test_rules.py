@@ -2,6 +2,7 @@
 
 import ast
 import builtins
+import itertools
 import re
 import unittest
 import warnings
@@ -18,6 +19,11 @@ BUILTINS = set(
 METHODS = {
     f"__{name}__" for name in "init eq repr str len enter exit call iter".split()
 }
+METHODS_OF_VALUES = set(
+    "append clear copy count endswith extend find get index insert isalnum isalpha isdigit islower isspace isupper "
+    "items join keys ljust lower lstrip partition pop remove replace reverse rfind rjust rpartition rsplit rstrip "
+    "setdefault split splitlines startswith strip update upper values zfill bit_length".split()
+)
 BARRED_WORDS = re.compile(
     r"\b(type|typing|typing_extensions|enum|Enum|IntEnum|StrEnum|Flag|IntFlag|Generic|Protocol|ABC|ABCMeta|namedtuple"
     r"|NamedTuple|TypedDict|TYPE_CHECKING|abstractmethod)\b|dataclass|overload|contextmanager"
@@ -111,6 +117,33 @@ class Code(unittest.TestCase):
                     if isinstance(sign, (ast.Is, ast.IsNot)):
                         self.assertIsInstance(right, ast.Constant, where)
                         self.assertIn(right.value, (None, True, False), where)
+
+    def test_methods_are_allowed(self):
+        own = {node.name for where, node in self.each() if isinstance(node, ast.FunctionDef)}
+        for where, node in self.each():
+            if isinstance(node, ast.Call) and isinstance(node.func, ast.Attribute):
+                self.assertIn(node.func.attr, METHODS_OF_VALUES | own, where)
+
+    def test_exponents_are_written_out(self):
+        for where, node in self.each():
+            if isinstance(node, ast.BinOp) and isinstance(node.op, ast.Pow):
+                self.assertIsInstance(node.right, ast.Constant, where)
+
+    def test_names_are_bound_once_and_keep_their_meaning(self):
+        for path in FILES:
+            module = ast.parse(path.read_text(encoding="utf-8"))
+            bound = []
+            for node in module.body:
+                bound += [each.asname or each.name for each in getattr(node, "names", [])]
+                bound += [node.name] if isinstance(node, (ast.FunctionDef, ast.ClassDef)) else []
+                bound += [target.id for target in getattr(node, "targets", [])]
+            self.assertEqual(len(bound), len(set(bound)), path.name)
+            functions = [node for node in ast.walk(module) if isinstance(node, ast.FunctionDef)]
+            for node in itertools.chain(*map(ast.walk, functions)):
+                if isinstance(node, ast.Name) and isinstance(node.ctx, ast.Store):
+                    self.assertNotIn(node.id, bound, f"{path.name}:{node.lineno}")
+                if isinstance(node, ast.arg):
+                    self.assertNotIn(node.arg, bound, f"{path.name}:{node.lineno}")
 
 
 if __name__ == "__main__":

@@ -41,6 +41,12 @@ def table_worth_by(table, place, prime):
     return sum([thing * weight for thing, weight in zip(table, weights_by(place, prime))]) % prime
 
 
+def folded_by(table, at, prime):
+    """The table folded by a rest, without looking at what is handed in."""
+    half = len(table) // 2
+    return [((1 - at) * low + at * high) % prime for low, high in zip(table[:half], table[half:])]
+
+
 def corner(number, letters):
     """The row of the number's figures in base two, as many as letters, the greatest first."""
     if not are_letters(letters):
@@ -72,5 +78,4 @@ def folded(table, at, *, prime=PRIME):
     if letters_of_table(table, prime) == 0:
         raise BadTable("a table of no letters can't be folded")
     need_rest(at, prime)
-    half = len(table) // 2
-    return [((1 - at) * low + at * high) % prime for low, high in zip(table[:half], table[half:])]
+    return folded_by(table, at, prime)
