@@ -88,3 +88,15 @@ class Checks:
         second = function(*things, **named)
         spoil(things)
         self.assertTrue(same_kinds(kept, second))
+
+
+def methods(cls):
+    """The names of the methods that the class itself defines."""
+    return {name for name, thing in vars(cls).items() if inspect.isfunction(thing)}
+
+
+def plain(function):
+    """The signature's (name, default) of a method or function without anything behind `*`, its own object left out."""
+    found = signature(function)
+    assert all(kind == "place" for name, kind, default in found), found
+    return [name for name, kind, default in found if name != "self"]

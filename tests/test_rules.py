@@ -145,6 +145,53 @@ class Code(unittest.TestCase):
                 if isinstance(node, ast.arg):
                     self.assertNotIn(node.arg, bound, f"{path.name}:{node.lineno}")
 
+    def test_no_name_is_a_method_and_an_attribute(self):
+        owned, stored, read = set(), set(), {}
+        for where, node in self.each():
+            if isinstance(node, ast.ClassDef):
+                owned |= {each.name for each in node.body if isinstance(each, ast.FunctionDef)}
+            if isinstance(node, ast.Attribute) and isinstance(node.ctx, ast.Store):
+                stored.add(node.attr)
+            elif isinstance(node, ast.Attribute):
+                read[node.attr] = where
+        self.assertEqual(owned & stored, set())
+        self.assertEqual(set(read) - owned - stored - METHODS_OF_VALUES, set())
+
+    def test_sums_and_the_like_take_lists(self):
+        # A class has __eq__, so no generator expression stands in these.
+        for where, node in self.each():
+            if isinstance(node, ast.Call) and isinstance(node.func, ast.Name):
+                if node.func.id in ("any", "all", "min", "max", "sum", "sorted"):
+                    self.assertFalse([each for each in node.args if isinstance(each, ast.GeneratorExp)], where)
+
+    def test_refusals_that_are_caught_are_own_ones(self):
+        own = {node.name for where, node in self.each() if isinstance(node, ast.ClassDef)}
+        for where, node in self.each():
+            if isinstance(node, ast.ExceptHandler):
+                caught = node.type.elts if isinstance(node.type, ast.Tuple) else [node.type]
+                self.assertLessEqual({each.id for each in caught}, own, where)
+            if isinstance(node, ast.Raise) and node.exc is not None:
+                self.assertIsInstance(node.exc, ast.Call, where)
+                self.assertIn(node.exc.func.id, own, where)
+
+    def test_imports_name_the_file_that_defines_and_go_no_circles(self):
+        needs = {}
+        for path in FILES:
+            module = ast.parse(path.read_text(encoding="utf-8"))
+            imports = [node for node in module.body if isinstance(node, ast.ImportFrom)]
+            needs[f"weaklook.{path.stem}"] = {node.module for node in imports}
+            used = {node.id for node in ast.walk(module) if isinstance(node, ast.Name)}
+            for node in imports:
+                source = ast.parse((PACKAGE / f"{node.module.split('.')[1]}.py").read_text(encoding="utf-8"))
+                defined = {each.name for each in source.body if isinstance(each, (ast.FunctionDef, ast.ClassDef))}
+                defined |= {target.id for each in source.body if isinstance(each, ast.Assign) for target in each.targets}
+                names = {each.name for each in node.names}
+                self.assertLessEqual(names, defined & used, f"{path.name}:{node.lineno}")
+        while needs:
+            free = {name for name in needs if not needs[name] & set(needs)}
+            self.assertTrue(free, needs)
+            needs = {name: needs[name] for name in needs if name not in free}
+
 
 if __name__ == "__main__":
     unittest.main()

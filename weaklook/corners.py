@@ -47,6 +47,13 @@ def folded_by(table, at, prime):
     return [((1 - at) * low + at * high) % prime for low, high in zip(table[:half], table[half:])]
 
 
+def folded_through(table, place, prime):
+    """The table folded by each rest in turn, without looking at what is handed in."""
+    for at in place:
+        table = folded_by(table, at, prime)
+    return list(table)
+
+
 def corner(number, letters):
     """The row of the number's figures in base two, as many as letters, the greatest first."""
     if not are_letters(letters):

@@ -91,8 +91,12 @@ def course(question):
     return saying_course(question[2])
 
 
+def opening_of(question):
+    """How many coins a looker takes ahead of the first letter: those of a product's two places."""
+    return 2 * letters_of_square(question[2]) if question[0] == "product" else 0
+
+
 def coins_of(question):
     """How many coins a looker takes: one behind each line, and those of a product's two places."""
     lines = [word for word, many in course(question) if word != "split"]
-    ahead = 2 * letters_of_square(question[2]) if question[0] == "product" else 0
-    return len(lines) + ahead
+    return len(lines) + opening_of(question)

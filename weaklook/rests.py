@@ -105,6 +105,14 @@ def back(one, *, prime=PRIME):
     return back_by(one, prime)
 
 
+def whole_power(base, many):
+    """The power of a whole number, not taken by a prime."""
+    total = 1
+    for step in range(many):
+        total *= base
+    return total
+
+
 def common(one, other):
     """The greatest number that goes into both."""
     while other:

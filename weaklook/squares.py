@@ -2,7 +2,7 @@
 
 from weaklook.corners import folded_by, need_place, table_worth_by, weights_by
 from weaklook.errors import BadSquare, TooMany
-from weaklook.rests import PRIME, are_rests, need_prime
+from weaklook.rests import PRIME, are_rests, need_prime, whole_power
 
 SIDES = (2, 4, 8)
 MOST_PAIRS = 2500
@@ -37,9 +37,7 @@ def letters_of_square(square):
 
 def need_few_pairs(square, prime):
     """Refuse a square that has more pairs of places than are gone through."""
-    pairs = 1
-    for side in range(2 * letters_of_square(square)):
-        pairs *= prime
+    pairs = whole_power(prime, 2 * letters_of_square(square))
     if pairs > MOST_PAIRS:
         raise TooMany(f"there are {pairs} pairs of places, more than {MOST_PAIRS}")
 
@@ -64,10 +62,19 @@ def raised_by(square, many, prime):
     return total
 
 
+def turned(square):
+    """The square with its rows as columns."""
+    return [list(column) for column in zip(*square)]
+
+
+def carried_by(square, sides, prime):
+    """Of each column the sum of its things, each times what stands at its row in sides."""
+    return [sum([thing * side for thing, side in zip(column, sides)]) % prime for column in zip(*square)]
+
+
 def row_table_by(square, rows, prime):
     """The table over columns at the place for rows, without looking at what is handed in."""
-    sides = weights_by(rows, prime)
-    return [sum([thing * side for thing, side in zip(column, sides)]) % prime for column in zip(*square)]
+    return carried_by(square, weights_by(rows, prime), prime)
 
 
 def square_worth_by(square, rows, columns, prime):

@@ -212,6 +212,26 @@ def body_table(saying):
     return [body_worth_by(saying[1], dict(zip(names, figures)), PRIME) for figures in corners]
 
 
+def all_or_some(word, low, high, prime):
+    """What the word makes of two worths: for all their product, for some their sum less it."""
+    both = low * high
+    return (both if word == "all" else low + high - both) % prime
+
+
+def shortened(table, word):
+    """The table, over corners of one name less, of whether it holds for all or some of the last name."""
+    # The last name is the last figure of a corner, so what it parts stands side by side.
+    return [all_or_some(word, low, high, PRIME) for low, high in zip(table[::2], table[1::2])]
+
+
+def front_tables(saying):
+    """For each name the table, over corners of the names up to it, of whether the front behind it holds."""
+    tables = [body_table(saying)]
+    for word, name in saying[0][:0:-1]:
+        tables.append(shortened(tables[-1], word))
+    return tables[::-1]
+
+
 def read_saying(text):
     """The saying that the text writes."""
     need_signs(text)
@@ -248,11 +268,8 @@ def degrees(saying):
 def truth(saying):
     """Whether the saying is true."""
     need_saying(saying)
-    table = body_table(saying)
-    # The last name is the last figure of a corner, so what it parts stands side by side.
-    for word, name in saying[0][::-1]:
-        table = [low & high if word == "all" else low | high for low, high in zip(table[::2], table[1::2])]
-    return table == [1]
+    word = saying[0][0][0]
+    return shortened(front_tables(saying)[0], word) == [1]
 
 
 def body_worth(saying, place, *, prime=PRIME):
