@@ -83,8 +83,8 @@ class SlowTalk:
             if len(self.middle) < self.letters:
                 return None
             one, other, rows, columns = self.abouts[-1]
-            return slow_worth(one, rows, self.middle, self.prime) * slow_worth(other, self.middle, columns, self.prime) \
-                % self.prime
+            ahead = slow_worth(one, rows, self.middle, self.prime)
+            return ahead * slow_worth(other, self.middle, columns, self.prime) % self.prime
         length, rows, columns = self.abouts[-1]
         return slow_worth(self.question[2], rows, columns, self.prime) if length == 1 else None
 

@@ -113,6 +113,14 @@ def whole_power(base, many):
     return total
 
 
+def all_rows(many, prime):
+    """All rows of so many rests, as tuples."""
+    rows = [()]
+    for step in range(many):
+        rows = [row + (thing,) for row in rows for thing in range(prime)]
+    return rows
+
+
 def common(one, other):
     """The greatest number that goes into both."""
     while other:

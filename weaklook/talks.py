@@ -63,6 +63,11 @@ def awaited(talk):
     return talk.stance.scene.turn() if talk.stance.standing == "on" else None
 
 
+def paper_of(talk):
+    """The letters heard and all coins."""
+    return (talk.letters, talk.coins)
+
+
 def told_since(talk, known):
     """The coins that were told behind the first ones that were known."""
     return talk.coins[known:talk.known]

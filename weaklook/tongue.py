@@ -11,6 +11,7 @@ SIGN_OF = {"or": "|", "and": "&", "not": "!"}
 FORM_OF = {"|": "or", "&": "and", "!": "not"}
 THINGS_OF = {"name": 2, "not": 2, "and": 3, "or": 3}
 BINDS = {"or": 1, "and": 2, "not": 3, "name": 4}
+BRACKET_STEPS = {"(": 1, ")": -1}
 MOST_NAMES = 4
 MOST_SMALL = 6
 MOST_PARTS = 24
@@ -157,12 +158,14 @@ def read_body(pieces, names):
     bodies = []
     signs = []
     behind_body = False
+    within = 0
     for at, piece in pieces[:-1]:
-        if not may_stand(piece, behind_body, signs.count("("), names):
+        if not may_stand(piece, behind_body, within, names):
             raise BadText(at)
         take_piece(piece, bodies, signs)
+        within += BRACKET_STEPS.get(piece, 0)
         behind_body = piece in names or piece == ")"
-    if not behind_body or "(" in signs:
+    if not behind_body or within > 0:
         raise BadText(pieces[-1][0])
     join_bodies(bodies, signs, 0)
     return bodies[0]

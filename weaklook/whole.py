@@ -2,12 +2,7 @@
 
 from weaklook.errors import BadLetter
 from weaklook.talker import said_letter
-from weaklook.talks import first_talk, talk_behind
-
-
-def paper_of(talk):
-    """The letters heard and all coins."""
-    return (talk.letters, talk.coins)
+from weaklook.talks import first_talk, paper_of, talk_behind
 
 
 def led(question, coins, *, lies=False):
